@@ -1,0 +1,1 @@
+"""Neverfour: links without a clock, on as few wires as can be."""
