@@ -62,7 +62,7 @@ def least_free(book):
 def ray_counts(book):
     """For each state, how many rows lead from it to a ring and no further, where no fork is on a ring."""
     ring = ring_states(book)
-    counts = [1 if state in ring else 0 for state in range(len(book))]
+    counts = [0] * len(book)
     # Rows off the rings meet no state twice, so as many rounds as there are states count all of them.
     for _ in range(len(book)):
         counts = [

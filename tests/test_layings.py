@@ -77,6 +77,9 @@ class MadeLaying(Case):
         alone = (0, ((0, (1,)), (0, (2,))))
         for place in bad:
             self.bad(1, BITS, (1, (alone, place)))
+        for state in (-1, 1, 2, -2, True, False, None, "0", (0,), 10 ** 40, -(10 ** 40)):
+            self.bad(1, BITS, (1, (alone, (state, alone[1]))))
+            self.bad(2, TILL, (0, ((0, ((0, ()), (1, ()))), (1, ()), (state if state != 1 else 3, ()))))
 
     def test_goes_with(self):
         # Place 2 goes with state 1, whatever its moves are; so place 0 is good and place 2 is the first bad one.
