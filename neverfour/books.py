@@ -67,8 +67,13 @@ def check_state(book, state):
 
 def check_message(book, state, message):
     """NoMessage unless the message stands at the state."""
-    if not whole(message) or message not in [m for m, to in book[state]]:
+    if not stands(book, state, message):
         raise NoMessage(message)
+
+
+def stands(book, state, message):
+    """Whether the message stands at the state."""
+    return whole(message) and message in [m for m, to in book[state]]
 
 
 def made_row(book, thing):

@@ -19,10 +19,10 @@ def tuple_within(thing, low, high):
     return isinstance(thing, tuple) and low <= len(thing) <= high
 
 
-def first_rows(states):
-    """The least row to each state that rows come to, by the state, in the order of these rows."""
-    rows = {0: ()}
-    order = [0]
+def first_rows(states, start=0):
+    """The least row from the start to each state that rows from there come to, by the state, in the order of rows."""
+    rows = {start: ()}
+    order = [start]
     done = 0
     while done < len(order):
         state = order[done]
@@ -56,3 +56,52 @@ def least_states(states):
             return by_meeting(list(numbers))
         kinds = [numbers[sign] for sign in signs]
         many = len(numbers)
+
+
+def ring_groups(ahead):
+    """The groups of places that lead to one another, each behind all groups to which it leads.
+
+    ahead has, for each place, the places to which its moves lead.
+    """
+    back = [[] for _ in ahead]
+    for place in range(len(ahead)):
+        for to in ahead[place]:
+            back[to].append(place)
+    known = [False] * len(ahead)
+    groups = []
+    # Of the places that are not known, the one left last leads to its group, and no other group leads back to it.
+    for start in reversed(left_order(ahead)):
+        if not known[start]:
+            known[start] = True
+            group = [start]
+            done = 0
+            while done < len(group):
+                place = group[done]
+                done += 1
+                for other in back[place]:
+                    if not known[other]:
+                        known[other] = True
+                        group.append(other)
+            groups.append(group)
+    groups.reverse()
+    return groups
+
+
+def left_order(ahead):
+    """All places in the order in which a walk leaves them that goes as deep as it can and enters each one once."""
+    order = []
+    known = [False] * len(ahead)
+    for start in range(len(ahead)):
+        open_places = [] if known[start] else [(start, 0)]
+        known[start] = True
+        while open_places:
+            place, done = open_places.pop()
+            if done == len(ahead[place]):
+                order.append(place)
+                continue
+            open_places.append((place, done + 1))
+            to = ahead[place][done]
+            if not known[to]:
+                known[to] = True
+                open_places.append((to, 0))
+    return order

@@ -11,6 +11,7 @@ from neverfour.books import check_message, made_book
 from neverfour.common import first_rows, whole_within
 from neverfour.errors import BadPlace, Same, TooMany
 from neverfour.layings import check_laying, lots_of, moves_of
+from neverfour.lots import sum_of
 
 GREATEST_SIZE = 20000
 
@@ -28,7 +29,7 @@ def soonest(book, laying, place, a, b):
         raise Same(0)
     lots = lots_of(book, laying)[place]
     check_size(lots[a])
-    return least_cover(laying[1], lots[a], dict(moves_of(book, laying)[place])[b], lots[b])
+    return least_cover(laying[1], lots[a], dict(moves_of(book, laying)[place])[b], lots[b], None)
 
 
 def size_of(lot):
@@ -46,35 +47,87 @@ def check_size(lot):
         raise TooMany(size)
 
 
-def least_cover(places, goal, start, lot):
-    """The least number of messages that cover the goal; the first one has this lot and leads to the place start."""
-    wires = [wire for wire in range(len(goal)) if goal[wire] > 0]
-    tops = cut(goal, goal, wires)
-    first = cut(lot, goal, wires)
-    if first == tops:
+class Goal:
+    """A lot that is to be covered, as the search knows it."""
+
+    def __init__(self, lot):
+        self.lot = lot
+        self.wires = [wire for wire in range(len(lot)) if lot[wire] > 0]
+        self.tops = self.cut(lot)
+        self.sums = OneWire(self.tops[0]) if len(self.tops) == 1 else ManyWires(self.tops)
+
+    def cut(self, lot):
+        """The numbers of the lot on the wires that matter, none greater than that of the goal."""
+        return tuple([min(lot[wire], self.lot[wire]) for wire in self.wires])
+
+    def plus(self, total, lot):
+        """The cut sum of a cut one and a lot."""
+        return tuple([min(number + lot[wire], top) for number, wire, top in zip(total, self.wires, self.tops)])
+
+    def of_sum(self, lot):
+        """What is known behind a message with this cut lot."""
+        return self.sums.raised(self.sums.nothing(), self.sums.change(lot))
+
+
+def least_cover(places, goal_lot, start, lot, limit):
+    """The least number of messages that cover a lot; the first one has this lot and leads to the place start.
+
+    It is None if there is no such number, or none up to the limit; the limit may be None.
+    """
+    goal = Goal(goal_lot)
+    first = goal.cut(lot)
+    if first == goal.tops:
         return 1
-    moves = cut_moves(places, start, goal, wires)
-    if first_lacking(moves, first, tops) is not None:
+    moves = cut_moves(places, start, goal)
+    if first_lacking(moves, first, goal.tops) is not None:
         return None
-    sums = OneWire(tops[0]) if len(tops) == 1 else ManyWires(tops)
-    search = Search(sums, steps_of(moves, start))
-    search.push(1, start, sums.raised(sums.nothing(), sums.change(first)))
-    return search.run()
+    steps = steps_of(moves, start)
+    search = Search(goal.sums, lambda place: steps[place])
+    search.push(1, start, goal.of_sum(first))
+    return search.run(limit)
 
 
-def cut(lot, goal, wires):
-    """The numbers of the lot on these wires, none greater than that of the goal."""
-    return tuple([min(lot[wire], goal[wire]) for wire in wires])
+def cover_within(places, goal_lot, start, lot, limit):
+    """What least_cover tells for a limit; it looks at no place that is further away."""
+    goal = Goal(goal_lot)
+    first = goal.cut(lot)
+    if first == goal.tops:
+        return 1
+    search = Search(goal.sums, lambda place: [(to, 1, goal.cut(lot_behind)) for to, lot_behind in places[place][1]])
+    search.push(1, start, goal.of_sum(first))
+    return search.run(limit)
 
 
-def cut_moves(places, start, goal, wires):
+def sums_behind(groups, places, goal):
+    """What is known, for each place of the groups, of all rows from there; each group is behind those it leads to."""
+    sums = goal.sums
+    known = {}
+    for group in groups:
+        reached = sums.nothing()
+        inner = (0,) * len(goal.tops)
+        for place in group:
+            for to, lot in places[place][1]:
+                part = goal.cut(lot)
+                if to in known:
+                    reached = sums.joined(reached, sums.raised(known[to], sums.change(part)))
+                else:
+                    inner = sum_of(inner, part)
+        # Within a group one can go round as often as one likes, past each of its pulses.
+        full = tuple([top if number > 0 else 0 for number, top in zip(inner, goal.tops)])
+        reached = sums.raised(reached, sums.change(full))
+        for place in group:
+            known[place] = reached
+    return known
+
+
+def cut_moves(places, start, goal):
     """For each place to which ways from start come, its pairs (to, cut lot)."""
     moves = {}
     ahead = [start]
     while ahead:
         place = ahead.pop()
         if place not in moves:
-            moves[place] = [(to, cut(lot, goal, wires)) for to, lot in places[place][1]]
+            moves[place] = [(to, goal.cut(lot)) for to, lot in places[place][1]]
             ahead.extend([to for to, lot in moves[place]])
     return moves
 
@@ -143,6 +196,10 @@ class OneWire:
     def full(self, known):
         """Whether the goal is reached."""
         return known == self.top
+
+    def holds(self, known, lot):
+        """Whether this cut lot is among the sums that are known or below one of them."""
+        return lot[0] <= known
 
 
 class ManyWires:
@@ -214,16 +271,22 @@ class ManyWires:
         """Whether the goal is reached."""
         return known.bit_length() == self.size
 
+    def holds(self, known, lot):
+        """Whether this cut lot is among the sums that are known or below one of them."""
+        place = 0
+        for wire in range(len(lot)):
+            place += lot[wire] * self.steps[wire]
+        return (known >> place) & 1 == 1
+
 
 class Search:
     """A search from level to level, a level being a number of messages, for the least one that reaches the goal."""
 
-    def __init__(self, sums, steps):
+    def __init__(self, sums, steps_at):
         self.sums = sums
-        self.steps = {}
-        for place, ahead in steps.items():
-            self.steps[place] = [(to, many, sums.change(lot)) for to, many, lot in ahead]
-        self.known = {place: None for place in steps}
+        self.steps_at = steps_at
+        self.ahead = {}
+        self.known = {}
         self.levels = []
         self.waiting = {}
         self.best = None
@@ -238,30 +301,41 @@ class Search:
             known = self.sums.joined(waiting[place], known)
         waiting[place] = known
 
-    def run(self):
-        """The least level that reaches the goal, None if none does."""
-        while self.levels and (self.best is None or self.levels[0] < self.best):
+    def run(self, limit):
+        """The least level that reaches the goal, None if none does or, unless the limit is None, none up to it."""
+        while self.levels and (limit is None or self.levels[0] < limit):
+            if self.best is not None and self.levels[0] >= self.best:
+                break
             level = heappop(self.levels)
             arriving = self.waiting.pop(level)
             for place in list(arriving):
                 self.arrive(level, place, arriving[place])
+        if limit is not None and self.best is not None and self.best > limit:
+            return None
         return self.best
 
     def arrive(self, level, place, known):
         """Goes on from the place if more is known of it now than before."""
         sums = self.sums
-        before = self.known[place]
+        before = self.known.get(place)
         if before is not None:
             known = sums.joined(before, known)
         if known == before:
             return
         self.known[place] = known
-        for to, many, change in self.steps[place]:
+        for to, many, change in self.steps_from(place):
             behind = sums.raised(known, change)
             if sums.full(behind):
                 self.note(level + many)
-            elif behind != self.known[to]:
+            elif behind != self.known.get(to):
                 self.push(level + many, to, behind)
+
+    def steps_from(self, place):
+        """The steps from the place, each one a tuple (to, messages, what raised takes)."""
+        if place not in self.ahead:
+            steps_at = self.steps_at
+            self.ahead[place] = [(to, many, self.sums.change(lot)) for to, many, lot in steps_at(place)]
+        return self.ahead[place]
 
     def note(self, level):
         """Notes that the goal is reached at the level."""

@@ -2,7 +2,7 @@
 
 from neverfour.books import made_book, states_along
 from neverfour.common import by_meeting, first_rows, tuple_within, whole, whole_within
-from neverfour.errors import BadLaying, BadLots, BadMany, BadOrder, BadWire, Refused
+from neverfour.errors import BadLaying, BadLots, BadMany, BadOrder, BadWire, Refused, TooMany
 from neverfour.lots import lot_on, sum_of
 
 MOST_WIRES = 6
@@ -93,10 +93,20 @@ def lot_of(book, laying, row):
     """The total of the row."""
     made_laying(book, laying)
     states_along(book, row)
+    return total_of(laying[0], lots_along(book, laying, row))
+
+
+def lots_along(book, laying, row):
+    """The lots of the messages of the row, one behind another."""
     lots = lots_of(book, laying)
-    total = (0,) * laying[0]
-    for place, message in zip(places_along(book, laying, row), row):
-        total = sum_of(total, lots[place][message])
+    return [lots[place][message] for place, message in zip(places_along(book, laying, row), row)]
+
+
+def total_of(wires, lots):
+    """The sum of lots on so many wires."""
+    total = (0,) * wires
+    for lot in lots:
+        total = sum_of(total, lot)
     return total
 
 
@@ -110,6 +120,11 @@ def met(book, laying):
 def seen(book, laying):
     """The laying of the places to which rows come, numbered in the order of met."""
     made_laying(book, laying)
+    return seen_part(book, laying)
+
+
+def seen_part(book, laying):
+    """What seen returns, where the arguments are known to be good."""
     moves = moves_of(book, laying)
     # The order of met is that of meeting, as rows are met in the order of rows.
     pairs = by_meeting(moves)
@@ -123,6 +138,11 @@ def seen(book, laying):
 def nought(book, laying):
     """The first pair (place, message) with a nought lot at a place to which rows come, None if there is none."""
     made_laying(book, laying)
+    return first_nought(book, laying)
+
+
+def first_nought(book, laying):
+    """What nought returns, where the arguments are known to be good."""
     lots = lots_of(book, laying)
     for place in first_rows(moves_of(book, laying)):
         for message, lot in lots[place].items():
@@ -184,3 +204,23 @@ def changed(laying, wires, change):
     for state, moves in laying[1]:
         places.append((state, tuple([(to, change(lot)) for to, lot in moves])))
     return (wires, tuple(places))
+
+
+def numbered_by_meeting(first, behind):
+    """The numbers of the places of a maker, by the places, which are told by tuples; or TooMany.
+
+    behind tells of a place to which ones its messages lead, the messages rising.
+    """
+    numbers = {first: 0}
+    order = [first]
+    done = 0
+    while done < len(order):
+        place = order[done]
+        done += 1
+        for to in behind(place):
+            if to not in numbers:
+                if len(order) == MOST_PLACES:
+                    raise TooMany(MOST_PLACES)
+                numbers[to] = len(order)
+                order.append(to)
+    return numbers

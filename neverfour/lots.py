@@ -38,7 +38,10 @@ def lot_on(thing, wires):
 
 def lies_below(one, two):
     """Whether one lot is below another one on as many wires."""
-    return all([x <= y for x, y in zip(one, two)])
+    for x, y in zip(one, two):
+        if x > y:
+            return False
+    return True
 
 
 def sum_of(one, two):

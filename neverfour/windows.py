@@ -1,9 +1,12 @@
 """Windows: which forks fall, in which round, and which are lasting."""
 
 from neverfour.books import check_state, made_book
-from neverfour.common import whole
+from neverfour.common import whole, whole_within
 from neverfour.errors import BadWindow
 from neverfour.forks import fork_states, led_to
+
+# The windows for which layings are made, and for which readers count by rests.
+GREATEST_SMALL = 6
 
 
 def made_window(thing):
@@ -16,6 +19,12 @@ def made_window(thing):
 def check_number(window):
     """BadWindow unless the window is one that is a number."""
     if made_window(window) is None:
+        raise BadWindow(0)
+
+
+def check_small(window):
+    """BadWindow unless the window is a number up to 6."""
+    if not whole_within(window, 1, GREATEST_SMALL):
         raise BadWindow(0)
 
 
@@ -38,7 +47,11 @@ def special(book, window, state):
     made_book(book)
     check_number(window)
     check_state(book, state)
-    rank_of = ranks_for(book, window)
+    return special_for(book, window, ranks_for(book, window), state)
+
+
+def special_for(book, window, rank_of, state):
+    """What special returns, where the arguments are known to be good and rank_of is what ranks returns."""
     rank = rank_of[state]
     if rank is None or rank == -1:
         return None

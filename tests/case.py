@@ -99,3 +99,91 @@ def rows_up_to(book, many):
         level = [(row + (m,), to) for row, at in level for m, to in book[at]]
         out.extend(level)
     return out
+
+
+def plain_pairs(book, laying):
+    """Each (u, place, a, b) of the places that rows come to, in the order of their least rows, the plain way."""
+    rows = {0: ()}
+    order = [0]
+    for place in order:
+        for (message, _), (to, _) in zip(book[laying[1][place][0]], laying[1][place][1]):
+            if to not in rows:
+                rows[to] = rows[place] + (message,)
+                order.append(to)
+    out = []
+    for place in order:
+        messages = [m for m, _ in book[laying[1][place][0]]]
+        out.extend((rows[place], place, a, b) for a in messages for b in messages if a != b)
+    return out
+
+
+def plain_cover(book, laying, place, a, b, many):
+    """The least way y behind b with which by covers a, of at most so many messages; None for any number of them.
+
+    It goes level by level through the pairs of a place and a sum that is cut at the lot of a.
+    """
+    def cut(one, two):
+        return tuple(min(x + y, top) for x, y, top in zip(one, two, goal))
+
+    def moves(at):
+        return zip([m for m, _ in book[laying[1][at][0]]], laying[1][at][1])
+
+    steps = dict(moves(place))
+    goal = steps[a][1]
+    level = {(steps[b][0], cut(steps[b][1], (0,) * len(goal))): ()}
+    known = set(level)
+    count = 1
+    while level and (many is None or count <= many):
+        ways = [way for (_, total), way in level.items() if total == goal]
+        if ways:
+            return min(ways)
+        count += 1
+        ahead = {}
+        for (at, total), way in level.items():
+            for message, (to, lot) in moves(at):
+                pair = (to, cut(total, lot))
+                if pair not in known:
+                    ahead[pair] = min(ahead.get(pair, (100,)), way + (message,))
+        known |= set(ahead)
+        level = ahead
+    return None
+
+
+def plain_why(book, laying, window):
+    """What why tells by the words of [7.5], for layings whose lots are small."""
+    rows = {}
+    for u, place, a, b in plain_pairs(book, laying):
+        rows[place] = u
+    best = None
+    for u, place, a, b in plain_pairs(book, laying):
+        y = plain_cover(book, laying, place, a, b, window)
+        if y is not None and (best is None or len(y) < len(best[4])):
+            best = ("cover", u, a, b, y)
+    return best
+
+
+def carrying(laying):
+    """The laying with a pulse on the first wire wherever a lot is a lot of zeros."""
+    wires, places = laying
+    out = []
+    for state, moves in places:
+        out.append((state, tuple((to, lot if any(lot) else (1,) + lot[1:]) for to, lot in moves)))
+    return (wires, tuple(out))
+
+
+# Message 0 any number of times, then message 1.
+ENDING = (((0, 0), (1, 1)), ())
+
+
+def turns(window):
+    """A laying of ENDING on two wires that is right for this window from 2 on and for no greater one."""
+    half = window - 1
+    places = []
+    for place in range(2 * half):
+        great = 2 * half - place % half
+        if place < half:
+            moves = (((place + 1) % (2 * half), (1, 0)), (2 * half, (0, great)))
+        else:
+            moves = (((place + 1) % (2 * half), (0, 1)), (2 * half, (great, 0)))
+        places.append((0, moves))
+    return (2, tuple(places) + ((1, ()),))

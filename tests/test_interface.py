@@ -33,28 +33,40 @@ INTERFACE = {
     },
     "least": {"least_wires": ("book", "window"), "from_window": ("book",), "verdict": ("book",)},
     "cover": {"soonest": ("book", "laying", "place", "a", "b")},
+    "kernel": {"paper_right": ("book", "laying", "window", "thing"), "hearing": ("book", "laying", "paper")},
+    "judge": {
+        "right": ("book", "laying", "window"), "greatest": ("book", "laying"), "why": ("book", "laying", "window"),
+        "made_paper": ("book", "laying", "window", "thing"),
+    },
+    "onewire": {"one_wire": ("book",)},
+    "twowires": {"two_wires": ("book", "window")},
+    "threewires": {"three_wires": ("book", "window")},
 }
 
 BOOK = (((0, 0), (1, 1)), ())
 FREE = (((0, 1), (1, 2)), (), ((4, 2),))
 LAYING = (2, ((0, ((2, (1, 0)), (1, (0, 2)))), (1, ()), (0, ((0, (0, 1)), (1, (2, 0))))))
+PAPER = ("cover", (), 1, 0, (0, 1))
 
 # A good value for each argument of each function.
 GOOD = {
     "book": BOOK, "one": BOOK, "two": (((2, 0),),), "row": (0, 0, 1), "state": 0, "many": 2, "message": 1,
     "laying": LAYING, "wires": 2, "lots": (((1, 0), (0, 1)), ()), "order": (1, 0), "wire": 1, "window": 2, "place": 2,
-    "a": 1, "b": 0,
+    "a": 1, "b": 0, "paper": PAPER, "thing": BOOK,
 }
-THINGS = {"made_row": (0, 1), "is_row": (0, 1), "made_laying": LAYING, "is_laying": LAYING, "made_window": 3}
+# What is good for some functions only.
+OWN = {
+    "made_row": {"thing": (0, 1)}, "is_row": {"thing": (0, 1)}, "made_laying": {"thing": LAYING},
+    "is_laying": {"thing": LAYING}, "made_window": {"thing": 3}, "below": {"one": (1, 2), "two": (3, 4)},
+    "plus": {"one": (1, 2), "two": (3, 4)}, "cut_rows": {"book": FREE}, "rays": {"book": FREE},
+    "first_fork": {"book": FREE}, "paper_right": {"thing": PAPER, "window": 3},
+    "made_paper": {"thing": PAPER, "window": 3}, "why": {"window": 3}, "one_wire": {"book": (((7, 1),), ((3, 0),))},
+}
 
 
 def arguments(name, names):
     """Good values for the arguments of a function."""
-    good = dict(GOOD, thing=THINGS.get(name, BOOK))
-    if name in ("below", "plus"):
-        good.update(one=(1, 2), two=(3, 4))
-    if name in ("cut_rows", "rays", "first_fork"):
-        good.update(book=FREE)
+    good = dict(GOOD, **OWN.get(name, {}))
     return [good[argument] for argument in names]
 
 
@@ -101,7 +113,7 @@ class Interface(Case):
             for k, value in enumerate(good):
                 if isinstance(value, tuple):
                     wrong = good[:k] + [list(value)] + good[k + 1:]
-                    if name.startswith("is_") and k == len(good) - 1:
+                    if (name.startswith("is_") or name == "paper_right") and k == len(good) - 1:
                         self.assertIs(function(*wrong), False)
                     else:
                         with self.assertRaises(ValueError):
