@@ -147,7 +147,7 @@ class Hunt:
         self.groups = ring_groups([[to for to, lot in moves] for state, moves in self.places])
         self.tops = [no_tops(self.places, self.wires)]
         self.asked = None
-        self.behind = {}
+        self.sums = {}
         tops = endless_tops(self.places, self.wires, self.groups)
         ends = [(index, self.pairs[index][5], self.needs[index]) for index in range(len(self.pairs))]
         self.possible = [index for index, place, need in ends if self.enough(tops, place, need)]
@@ -210,9 +210,9 @@ class Hunt:
         if self.asked != (place, a):
             ahead = self.reached(place)
             self.asked = (place, a)
-            self.behind = sums_behind([group for group in self.groups if ahead[group[0]]], self.places, goal)
+            self.sums = sums_behind([group for group in self.groups if ahead[group[0]]], self.places, goal)
         need = self.needs[index]
-        return goal.sums.holds(self.behind[to], tuple([max(0, need[wire]) for wire in goal.wires]))
+        return goal.sums.holds(self.sums[to], tuple([max(0, need[wire]) for wire in goal.wires]))
 
     def reached(self, start):
         """For each place, whether ways from the start come to it."""
@@ -315,12 +315,11 @@ class LongWay:
 
     def __init__(self, hunt, index, many):
         self.hunt = hunt
+        self.pair = hunt.pairs[index]
         self.many = many
-        _, _, _, goal_lot, lot, to = hunt.pairs[index]
-        self.goal = Goal(goal_lot)
+        self.goal = Goal(self.pair[3])
         self.known = {}
         self.trail = [(0, None)]
-        self.ends = [(to, self.goal.cut(lot), 0)]
         self.tops = [no_tops(hunt.places, hunt.wires)]
         while len(self.tops) < min(many, FORESIGHT):
             self.tops.append(more_tops(hunt.places, self.tops[-1]))
@@ -328,31 +327,34 @@ class LongWay:
     def run(self):
         """The least way."""
         hunt = self.hunt
+        goal = self.goal
+        ends = [(self.pair[5], goal.cut(self.pair[4]), 0)]
         for left in range(self.many - 1, -1, -1):
-            before = self.ends
-            self.ends = []
-            for place, total, node in before:
+            ahead = []
+            for place, total, node in ends:
                 for message, (to, lot) in zip(hunt.messages[place], hunt.places[place][1]):
-                    behind = self.goal.plus(total, lot)
-                    if behind == self.goal.tops:
+                    behind = goal.plus(total, lot)
+                    if behind == goal.tops:
                         return self.back(node) + (message,)
-                    self.go_on(to, behind, left, (node, message))
+                    if self.useful(to, behind, left):
+                        self.trail.append((node, message))
+                        ahead.append((to, behind, len(self.trail) - 1))
+            ends = ahead
         return None
 
-    def go_on(self, place, total, left, step):
-        """Notes a way that is one step longer than another one, if it is of any use."""
+    def useful(self, place, total, left):
+        """Whether a way to the place with this sum may become the least one, with so many messages left to be said."""
         goal = self.goal
         if left < len(self.tops):
             for wire, number in zip(goal.wires, total):
                 if goal.lot[wire] - number > self.tops[left][wire][place]:
-                    return
+                    return False
         known = self.known.get(place)
         if known is not None and goal.sums.holds(known, total):
-            return
+            return False
         new = goal.of_sum(total)
         self.known[place] = new if known is None else goal.sums.joined(known, new)
-        self.trail.append(step)
-        self.ends.append((place, total, len(self.trail) - 1))
+        return True
 
     def back(self, node):
         """The way to the node of the trail."""

@@ -2,7 +2,7 @@
 
 from neverfour.books import made_book, states_along
 from neverfour.common import by_meeting, first_rows, tuple_within, whole, whole_within
-from neverfour.errors import BadLaying, BadLots, BadMany, BadOrder, BadWire, Refused, TooMany
+from neverfour.errors import BadLaying, BadLots, BadMany, BadOrder, BadWire, Nought, Refused, TooMany
 from neverfour.lots import lot_on, sum_of
 
 MOST_WIRES = 6
@@ -41,6 +41,14 @@ def check_laying(book, thing):
             raise BadLaying(p)
         if not fits_state(places[p][1], book[state], wires, states):
             raise BadLaying(p)
+
+
+def check_carrying(book, laying):
+    """BadLaying unless the thing is a laying; Nought for the first place that rows come to with a nought lot."""
+    check_laying(book, laying)
+    bad = first_nought(book, laying)
+    if bad is not None:
+        raise Nought(bad[0])
 
 
 def state_told(thing):

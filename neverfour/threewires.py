@@ -21,7 +21,7 @@ def three_wires(book, window):
     places = []
     for place in numbers:
         heads = [numbers[to] for to in batches.behind(place)]
-        places.append((place[0], tuple(list(zip(heads, batches.lots(place))))))
+        places.append((place[0], tuple(zip(heads, batches.lots(place)))))
     return (3, tuple(places))
 
 

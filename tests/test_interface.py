@@ -41,6 +41,17 @@ INTERFACE = {
     "onewire": {"one_wire": ("book",)},
     "twowires": {"two_wires": ("book", "window")},
     "threewires": {"three_wires": ("book", "window")},
+    "freewires": {"free_wires": ("book",)},
+    "makers": {"make": ("book", "window")},
+    "breakers": {"pinch": ("book", "laying"), "fall": ("book", "laying", "window"), "again": ("book", "laying")},
+    "rests": {"caps": ("book", "laying", "many")},
+    "sure": {"sure": ("book", "laying", "counts")},
+}
+
+# The classes, what their objects are made of, and their methods.
+CLASSES = {
+    "readers": {"Reader": (("book", "laying"), {"hear": ("wire",), "told": (), "counts": ()})},
+    "rests": {"RestReader": (("book", "laying", "window"), {"rests": (), "look": ("rests",), "told": ()})},
 }
 
 BOOK = (((0, 0), (1, 1)), ())
@@ -53,6 +64,7 @@ GOOD = {
     "book": BOOK, "one": BOOK, "two": (((2, 0),),), "row": (0, 0, 1), "state": 0, "many": 2, "message": 1,
     "laying": LAYING, "wires": 2, "lots": (((1, 0), (0, 1)), ()), "order": (1, 0), "wire": 1, "window": 2, "place": 2,
     "a": 1, "b": 0, "paper": PAPER, "thing": BOOK,
+    "counts": (3, 0), "rests": (1, 1),
 }
 # What is good for some functions only.
 OWN = {
@@ -61,6 +73,8 @@ OWN = {
     "plus": {"one": (1, 2), "two": (3, 4)}, "cut_rows": {"book": FREE}, "rays": {"book": FREE},
     "first_fork": {"book": FREE}, "paper_right": {"thing": PAPER, "window": 3},
     "made_paper": {"thing": PAPER, "window": 3}, "why": {"window": 3}, "one_wire": {"book": (((7, 1),), ((3, 0),))},
+    "free_wires": {"book": FREE}, "pinch": {"laying": (1, ((0, ((0, (2,)), (1, (1,)))), (1, ())))},
+    "fall": {"book": (((0, 0), (1, 0)),), "laying": (2, ((0, ((0, (1, 0)), (0, (0, 1)))),))},
 }
 
 
@@ -83,6 +97,37 @@ class Interface(Case):
         for module, names in INTERFACE.items():
             for name, names_of_arguments in names.items():
                 yield module, name, getattr(importlib.import_module("neverfour." + module), name), names_of_arguments
+
+    def classes(self):
+        for module, told in CLASSES.items():
+            for name, (names, methods) in told.items():
+                yield module, name, getattr(importlib.import_module("neverfour." + module), name), names, methods
+
+    def test_classes_and_their_methods(self):
+        for module, name, made, names, methods in self.classes():
+            self.assertTrue(inspect.isclass(made), name)
+            self.assertEqual(made.__module__, "neverfour." + module)
+            for method, told in dict(methods, __init__=names).items():
+                # Each method is defined in the class itself, not only in a base class.
+                self.assertIn(method, vars(made), name)
+                parameters = list(inspect.signature(vars(made)[method]).parameters.values())
+                self.assertEqual(tuple(parameter.name for parameter in parameters[1:]), told, (name, method))
+                for parameter in parameters[1:]:
+                    self.assertIs(parameter.default, inspect.Parameter.empty)
+
+    def test_classes_by_position_and_by_name(self):
+        for module, name, made, names, methods in self.classes():
+            good = arguments(name, names)
+            for method, told in methods.items():
+                one, two = made(*good), made(**dict(zip(names, good)))
+                values = arguments(name, told)
+                found = getattr(one, method)(*values)
+                self.assertTrue(kinds(found), (name, method))
+                self.same(getattr(two, method)(**dict(zip(told, values))), found)
+            for k, value in enumerate(good):
+                for wrong in (True, False) if isinstance(value, int) else (list(value),):
+                    with self.assertRaises(ValueError):
+                        made(*good[:k] + [wrong] + good[k + 1:])
 
     def test_each_is_defined_in_its_file(self):
         for module, name, function, names in self.functions():
