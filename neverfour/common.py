@@ -105,3 +105,25 @@ def left_order(ahead):
                 known[to] = True
                 open_places.append((to, 0))
     return order
+
+
+def lone_places(ahead):
+    """The places from which there is one way at most, however long it is, as the keys of a dict.
+
+    ahead has, for each place, the places to which its moves lead.
+    """
+    back = [[] for _ in ahead]
+    parting = []
+    for place in range(len(ahead)):
+        for to in ahead[place]:
+            back[to].append(place)
+        if len(ahead[place]) > 1:
+            parting.append(place)
+    known = {place: True for place in parting}
+    while parting:
+        place = parting.pop()
+        for before in back[place]:
+            if before not in known:
+                known[before] = True
+                parting.append(before)
+    return {place: True for place in range(len(ahead)) if place not in known}

@@ -8,12 +8,14 @@ a sum is of no use if a greater one came there as soon, so the objects below kee
 from heapq import heappop, heappush
 
 from neverfour.books import check_message, made_book
-from neverfour.common import first_rows, whole_within
+from neverfour.common import first_rows, lone_places, whole_within
 from neverfour.errors import BadPlace, Same, TooMany
 from neverfour.layings import check_laying, lots_of, moves_of
 from neverfour.lots import sum_of
 
 GREATEST_SIZE = 20000
+# With so many powers of two there are more messages than bring 20,000 pulses round a ring of 2,000 places.
+POWERS = 26
 
 
 def soonest(book, laying, place, a, b):
@@ -29,7 +31,7 @@ def soonest(book, laying, place, a, b):
         raise Same(0)
     lots = lots_of(book, laying)[place]
     check_size(lots[a])
-    return least_cover(laying[1], lots[a], dict(moves_of(book, laying)[place])[b], lots[b], None)
+    return least_cover(laying[1], lots[a], dict(moves_of(book, laying)[place])[b], lots[b])
 
 
 def size_of(lot):
@@ -64,16 +66,17 @@ class Goal:
         """The cut sum of a cut one and a lot."""
         return tuple([min(number + lot[wire], top) for number, wire, top in zip(total, self.wires, self.tops)])
 
+    def full_with(self, known, total):
+        """Whether the goal is reached if so much, a cut sum, comes to what is known."""
+        return self.sums.holds(known, tuple([top - number for top, number in zip(self.tops, total)]))
+
     def of_sum(self, lot):
         """What is known behind a message with this cut lot."""
         return self.sums.raised(self.sums.nothing(), self.sums.change(lot))
 
 
-def least_cover(places, goal_lot, start, lot, limit):
-    """The least number of messages that cover a lot; the first one has this lot and leads to the place start.
-
-    It is None if there is no such number, or none up to the limit; the limit may be None.
-    """
+def least_cover(places, goal_lot, start, lot):
+    """The least number of messages that cover a lot; the first one has this lot and leads to the place start."""
     goal = Goal(goal_lot)
     first = goal.cut(lot)
     if first == goal.tops:
@@ -82,18 +85,18 @@ def least_cover(places, goal_lot, start, lot, limit):
     if first_lacking(moves, first, goal.tops) is not None:
         return None
     steps = steps_of(moves, start)
-    search = Search(goal.sums, lambda place: steps[place])
+    search = Search(goal, lambda place: steps[place], None)
     search.push(1, start, goal.of_sum(first))
-    return search.run(limit)
+    return search.run(None)
 
 
-def cover_within(places, goal_lot, start, lot, limit):
-    """What least_cover tells for a limit; it looks at no place that is further away."""
+def cover_within(places, goal_lot, start, lot, limit, tails):
+    """What least_cover tells if it is up to the limit, else None; it looks no further. The limit may be None, too."""
     goal = Goal(goal_lot)
     first = goal.cut(lot)
     if first == goal.tops:
         return 1
-    search = Search(goal.sums, lambda place: [(to, 1, goal.cut(lot_behind)) for to, lot_behind in places[place][1]])
+    search = Search(goal, lambda place: [(to, 1, goal.cut(behind)) for to, behind in places[place][1]], tails)
     search.push(1, start, goal.of_sum(first))
     return search.run(limit)
 
@@ -169,6 +172,39 @@ def long_steps(moves, place):
                 distance[to] = distance[at] + 1
                 order.append(to)
     return steps
+
+
+class Tails:
+    """What rows bring from the lone places, those from which there is one way at most, whatever is said.
+
+    For each power of two up to so many messages as a search may need, and each lone place, there is a pair of the
+    place and the lot behind so many messages; who comes to an end stays there.
+    """
+
+    def __init__(self, places, wires):
+        self.lone = lone_places([[to for to, lot in moves] for state, moves in places])
+        pairs = {place: (place, (0,) * wires) for place in self.lone}
+        for place in self.lone:
+            if places[place][1]:
+                pairs[place] = places[place][1][0]
+        self.pairs = [pairs]
+        while len(self.pairs) < POWERS:
+            half = self.pairs[-1]
+            self.pairs.append({place: (half[to][0], sum_of(lot, half[to][1])) for place, (to, lot) in half.items()})
+
+    def least(self, place, goal, known):
+        """The least number of messages from the lone place with which what is known is full, None if there is none."""
+        many = 0
+        total = (0,) * len(goal.tops)
+        for power in range(POWERS - 1, -1, -1):
+            to, lot = self.pairs[power][place]
+            behind = goal.plus(total, lot)
+            # So many messages are not enough: they are said, and a lesser number of them is looked at next.
+            if not goal.full_with(known, behind):
+                many += 1 << power
+                place = to
+                total = behind
+        return None if many == (1 << POWERS) - 1 else many + 1
 
 
 class OneWire:
@@ -282,9 +318,11 @@ class ManyWires:
 class Search:
     """A search from level to level, a level being a number of messages, for the least one that reaches the goal."""
 
-    def __init__(self, sums, steps_at):
-        self.sums = sums
+    def __init__(self, goal, steps_at, tails):
+        self.goal = goal
+        self.sums = goal.sums
         self.steps_at = steps_at
+        self.tails = tails
         self.ahead = {}
         self.known = {}
         self.levels = []
@@ -323,6 +361,11 @@ class Search:
         if known == before:
             return
         self.known[place] = known
+        if self.tails is not None and place in self.tails.lone:
+            more = self.tails.least(place, self.goal, known)
+            if more is not None:
+                self.note(level + more)
+            return
         for to, many, change in self.steps_from(place):
             behind = sums.raised(known, change)
             if sums.full(behind):

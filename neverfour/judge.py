@@ -8,14 +8,13 @@ bring so much, and is then searched twice as far as the gate has come; if that i
 
 from neverfour.books import LONGEST_ROW, made_book
 from neverfour.common import first_rows, ring_groups
-from neverfour.cover import Goal, check_size, cover_within, least_cover, sums_behind
+from neverfour.cover import Goal, Tails, check_size, cover_within, sums_behind
 from neverfour.errors import BadPaper, TooMany
 from neverfour.kernel import shows
-from neverfour.layings import check_laying, first_nought, lots_of, moves_of, seen_part
+from neverfour.layings import check_laying, endless_tops, first_nought, lots_of, more_tops, moves_of, no_tops, seen_part
+from neverfour.rings import forks_on_rings
 from neverfour.windows import GREATEST_SMALL, made_window
 
-# A fork on a ring is covered up to this level; behind it no pair waits, and searches go round rings in few steps.
-LAST_GATE = 2001
 # To search a pair is less work than to watch so many places at the gate.
 WATCHED = 8
 # So many messages ahead of its end, a way is known to be too short for what it still needs.
@@ -93,39 +92,6 @@ def check_sizes(book, laying):
                 check_size(lot)
 
 
-def more_tops(places, tops):
-    """The greatest number on each wire that rows from each place bring, if rows of one message less bring the tops."""
-    out = []
-    for wire in range(len(tops)):
-        old = tops[wire]
-        out.append([max([lot[wire] + old[to] for to, lot in moves], default=0) for state, moves in places])
-    return out
-
-
-def no_tops(places, wires):
-    """What rows without messages bring."""
-    return [[0] * len(places) for _ in range(wires)]
-
-
-def endless_tops(places, wires, groups):
-    """The greatest number on each wire that rows from each place bring, however long they are, None if none is."""
-    tops = [[None] * len(places) for _ in range(wires)]
-    for wire in range(wires):
-        known = tops[wire]
-        done = [False] * len(places)
-        for group in groups:
-            moves = [move for place in group for move in places[place][1]]
-            inner = any([lot[wire] > 0 for to, lot in moves if not done[to]])
-            outer = [(known[to], lot[wire]) for to, lot in moves if done[to]]
-            top = None
-            if not inner and not any([most is None for most, number in outer]):
-                top = max([most + number for most, number in outer], default=0)
-            for place in group:
-                known[place] = top
-                done[place] = True
-    return tops
-
-
 def pairs_of(places, messages):
     """All pairs, each a tuple (place, a, b, lot of a, lot of b, place behind b)."""
     pairs = []
@@ -150,6 +116,8 @@ class Hunt:
         self.sums = {}
         tops = endless_tops(self.places, self.wires, self.groups)
         ends = [(index, self.pairs[index][5], self.needs[index]) for index in range(len(self.pairs))]
+        self.rounded = bool(forks_on_rings(book))
+        self.tails = None
         self.possible = [index for index, place, need in ends if self.enough(tops, place, need)]
 
     def enough(self, tops, place, need):
@@ -163,9 +131,15 @@ class Hunt:
     def least(self, limit):
         """The least level up to the limit, if there is one, at which a pair is covered, and the first such pair."""
         if limit is None or limit > GREATEST_SMALL:
-            found = self.near(GREATEST_SMALL)
-            return Far(self, limit).run() if found is None else found
+            return self.near(GREATEST_SMALL) or self.far(limit)
         return self.near(limit)
+
+    def far(self, limit):
+        """What least tells, where no pair is covered at a small level."""
+        self.tails = Tails(self.places, self.wires)
+        if self.rounded:
+            return Far(self, limit).by_levels()
+        return Far(self, limit).at_once()
 
     def near(self, limit):
         """What least tells, for small limits."""
@@ -235,7 +209,11 @@ class Hunt:
 
 
 class Far:
-    """The hunt from the level 7 on, level by level."""
+    """The hunt from the level 7 on.
+
+    Without a fork on a ring, ways part a few times only, and each pair is searched at once. With one, some pair is
+    covered within one message more than there are places; so the hunt goes on level by level.
+    """
 
     def __init__(self, hunt, limit):
         self.hunt = hunt
@@ -246,7 +224,13 @@ class Far:
         self.asleep = {}
         self.checked = {}
 
-    def run(self):
+    def at_once(self):
+        """The least level and the first pair, None if there is none up to the limit; no fork is on a ring."""
+        for index in self.hunt.possible:
+            self.search(index, None)
+        return self.best
+
+    def by_levels(self):
         """The least level and the first pair, None if there is none up to the limit."""
         level = GREATEST_SMALL
         while self.waiting or self.asleep:
@@ -255,15 +239,17 @@ class Far:
                 break
             if self.best is not None and level > self.best[0]:
                 break
-            ready = self.passing(level) + self.asleep.pop(level, [])
+            ready = self.passing() + self.asleep.pop(level, [])
             for index in sorted(ready):
-                self.search(level, index)
+                # Twice as far as the level: what has been searched in vain is at most as much as what is left.
+                if self.search(index, 2 * level) and self.lasts(index):
+                    self.asleep.setdefault(2 * level + 1, []).append(index)
         return self.best
 
-    def passing(self, level):
-        """The pairs that wait no longer from this level on."""
+    def passing(self):
+        """The pairs that wait no longer from the next level on."""
         hunt = self.hunt
-        if level > LAST_GATE or len(self.waiting) * WATCHED < len(hunt.places):
+        if len(self.waiting) * WATCHED < len(hunt.places):
             passed = [index for index, wire in self.waiting]
             self.waiting = []
             return passed
@@ -281,24 +267,18 @@ class Far:
         self.waiting = waiting
         return passed
 
-    def search(self, level, index):
-        """Searches the pair from this level on up to twice as far, or less far if more is of no use."""
-        reach = 2 * level
-        if self.limit is not None:
-            reach = min(reach, self.limit)
+    def search(self, index, reach):
+        """Searches the pair up to this level, if it is not None; whether a search that goes further is of use."""
+        bound = self.limit
         if self.best is not None:
-            reach = min(reach, self.best[0] if index < self.best[1] else self.best[0] - 1)
-        if reach < level:
-            return
-        _, _, _, goal, lot, to = self.hunt.pairs[index]
-        if reach <= LAST_GATE:
-            found = cover_within(self.hunt.places, goal, to, lot, reach)
-        else:
-            found = least_cover(self.hunt.places, goal, to, lot, reach)
+            bound = self.best[0] if index < self.best[1] else self.best[0] - 1
+        further = reach is not None and (bound is None or reach < bound)
+        hunt = self.hunt
+        _, _, _, goal, lot, to = hunt.pairs[index]
+        found = cover_within(hunt.places, goal, to, lot, reach if further else bound, hunt.tails)
         if found is not None:
             self.best = (found, index)
-        elif reach == 2 * level and self.lasts(index):
-            self.asleep.setdefault(reach + 1, []).append(index)
+        return further and found is None
 
     def lasts(self, index):
         """Whether the pair is covered at any level."""
@@ -320,31 +300,44 @@ class LongWay:
         self.goal = Goal(self.pair[3])
         self.known = {}
         self.trail = [(0, None)]
+        self.least = None
         self.tops = [no_tops(hunt.places, hunt.wires)]
         while len(self.tops) < min(many, FORESIGHT):
             self.tops.append(more_tops(hunt.places, self.tops[-1]))
 
     def run(self):
         """The least way."""
-        hunt = self.hunt
         goal = self.goal
-        ends = [(self.pair[5], goal.cut(self.pair[4]), 0)]
+        place, total = self.pair[5], goal.cut(self.pair[4])
+        if place in self.hunt.tails.lone:
+            return self.lone_way(place, self.many)
+        ends = [(place, total, 0)]
         for left in range(self.many - 1, -1, -1):
             ahead = []
             for place, total, node in ends:
-                for message, (to, lot) in zip(hunt.messages[place], hunt.places[place][1]):
+                for message, (to, lot) in zip(self.hunt.messages[place], self.hunt.places[place][1]):
                     behind = goal.plus(total, lot)
-                    if behind == goal.tops:
-                        return self.back(node) + (message,)
-                    if self.useful(to, behind, left):
+                    if self.ended(to, behind, left):
+                        self.note(self.back(node) + (message,), to, left)
+                    elif self.useful(to, behind, left):
                         self.trail.append((node, message))
                         ahead.append((to, behind, len(self.trail) - 1))
             ends = ahead
-        return None
+        return self.least
+
+    def ended(self, place, total, left):
+        """Whether from this place one way alone, of the messages left, may cover, and does."""
+        if total == self.goal.tops:
+            return True
+        if place not in self.hunt.tails.lone:
+            return False
+        return self.hunt.tails.least(place, self.goal, self.goal.of_sum(total)) == left
 
     def useful(self, place, total, left):
         """Whether a way to the place with this sum may become the least one, with so many messages left to be said."""
         goal = self.goal
+        if place in self.hunt.tails.lone:
+            return False
         if left < len(self.tops):
             for wire, number in zip(goal.wires, total):
                 if goal.lot[wire] - number > self.tops[left][wire][place]:
@@ -355,6 +348,19 @@ class LongWay:
         new = goal.of_sum(total)
         self.known[place] = new if known is None else goal.sums.joined(known, new)
         return True
+
+    def note(self, way, place, left):
+        """Notes a way that covers, with the only messages that can follow, if it is less than all before."""
+        if self.least is None or way < self.least[:len(way)]:
+            self.least = way + self.lone_way(place, left)
+
+    def lone_way(self, place, many):
+        """The only so many messages that can be said from the place."""
+        messages = []
+        for _ in range(many):
+            messages.append(self.hunt.messages[place][0])
+            place = self.hunt.places[place][1][0][0]
+        return tuple(messages)
 
     def back(self, node):
         """The way to the node of the trail."""

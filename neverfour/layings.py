@@ -232,3 +232,36 @@ def numbered_by_meeting(first, behind):
                 numbers[to] = len(order)
                 order.append(to)
     return numbers
+
+
+def more_tops(places, tops):
+    """The greatest number on each wire that rows from each place bring, if rows of one message less bring the tops."""
+    out = []
+    for wire in range(len(tops)):
+        old = tops[wire]
+        out.append([max([lot[wire] + old[to] for to, lot in moves], default=0) for state, moves in places])
+    return out
+
+
+def no_tops(places, wires):
+    """What rows without messages bring."""
+    return [[0] * len(places) for _ in range(wires)]
+
+
+def endless_tops(places, wires, groups):
+    """The greatest number on each wire that rows from each place bring, however long they are, None if none is."""
+    tops = [[None] * len(places) for _ in range(wires)]
+    for wire in range(wires):
+        known = tops[wire]
+        done = [False] * len(places)
+        for group in groups:
+            moves = [move for place in group for move in places[place][1]]
+            inner = any([lot[wire] > 0 for to, lot in moves if not done[to]])
+            outer = [(known[to], lot[wire]) for to, lot in moves if done[to]]
+            top = None
+            if not inner and not any([most is None for most, number in outer]):
+                top = max([most + number for most, number in outer], default=0)
+            for place in group:
+                known[place] = top
+                done[place] = True
+    return tops

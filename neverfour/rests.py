@@ -3,8 +3,8 @@
 from neverfour.books import made_book
 from neverfour.common import tuple_within, whole_within
 from neverfour.errors import BadMany, BadRests, NotRight
-from neverfour.judge import more_tops, no_tops, right
-from neverfour.layings import check_carrying, seen_part
+from neverfour.judge import right
+from neverfour.layings import check_carrying, more_tops, no_tops, seen_part
 from neverfour.readers import Teller
 from neverfour.windows import GREATEST_SMALL, check_small
 

@@ -156,8 +156,9 @@ def plain_why(book, laying, window):
         rows[place] = u
     best = None
     for u, place, a, b in plain_pairs(book, laying):
-        y = plain_cover(book, laying, place, a, b, window)
-        if y is not None and (best is None or len(y) < len(best[4])):
+        # Only what has fewer messages than the best one so far can be better.
+        y = plain_cover(book, laying, place, a, b, window if best is None else len(best[4]))
+        if y is not None:
             best = ("cover", u, a, b, y)
     return best
 

@@ -11,6 +11,7 @@ from neverfour.threewires import three_wires
 from neverfour.twowires import two_wires
 
 from tests.case import ENDING, ODD, Case, Source, carrying, nested, plain_pairs, plain_why, turns
+from tests.test_freewires import downward
 from tests.test_windows import BAD_WINDOWS
 
 BITS = (((0, 0), (1, 0)),)
@@ -57,6 +58,22 @@ def layings(source, many):
             laying = changed(source, three_wires(book, 1 + source.below(2)))
         if all(size(lot) <= 2000 for _, moves in laying[1] for _, lot in moves) and len(laying[1]) < 60:
             yield book, laying
+
+
+def slow_rings(source, book, wires, places):
+    """A laying with great lots at the forks, those of unlike messages on unlike wires, and one pulse elsewhere."""
+    states = list(range(len(book))) + [source.below(len(book)) for _ in range(places)]
+    out = []
+    for state in states:
+        moves = []
+        for k, (_, target) in enumerate(book[state]):
+            fitting = [p for p, other in enumerate(states) if other == target]
+            lot = [0] * wires
+            lot[k % wires] = 1 + source.below(15) if len(book[state]) > 1 else 0
+            lot[source.below(wires)] += 1 if k < wires or not any(lot) else 0
+            moves.append((fitting[source.below(len(fitting))], tuple(lot)))
+        out.append((state, tuple(moves)))
+    return (wires, tuple(out))
 
 
 def size(lot):
@@ -124,6 +141,39 @@ class AgainstThePlainWay(Case):
         self.assertGreater(len([n for n in told if n is not None and n > 6]), 5)
         self.assertGreater(told[None], 20)
         self.assertGreater(told[3], 5)
+
+    def test_ways_of_seven_messages_and_more(self):
+        source = Source(36)
+        books = (BITS, (((0, 1), (1, 0)), ((0, 0), (3, 1))), (((0, 1), (1, 0)), ((0, 2), (3, 2)), ((1, 0),)))
+        told = {}
+        for k in range(60):
+            book = books[source.below(3)]
+            laying = changed(source, three_wires(book, 4 + source.below(3)))
+            if all(size(lot) <= 20000 for _, moves in laying[1] for _, lot in moves):
+                expected = plain_why(book, laying, 9)
+                self.same(why(book, laying, None), expected)
+                level = len(expected[4]) + 1
+                self.same(why(book, laying, 9), expected)
+                self.same((greatest(book, laying), right(book, laying, level)), (level - 1, False))
+                told[level] = told.get(level, 0) + 1
+        self.assertGreater(told[7], 5)
+        self.assertGreater(told[8], 3)
+
+    def test_books_without_forks_on_rings(self):
+        source = Source(37)
+        told = {}
+        for k in range(200):
+            book = downward(source)
+            laying = slow_rings(source, book, 2 + source.below(2), 5 + source.below(20))
+            expected = plain_why(book, laying, None)
+            self.same(why(book, laying, None), expected)
+            level = None if expected is None else len(expected[4]) + 1
+            self.same(greatest(book, laying), None if level is None else level - 1)
+            for window in (6, 7, 8, 9, 15, 30, 60):
+                self.same(why(book, laying, window), expected if level is not None and level <= window else None)
+            told[level] = told.get(level, 0) + 1
+        self.assertGreater(len([n for n in told if n is not None and n > 6]), 5)
+        self.assertGreater(told[None], 20)
 
     def test_with_noughts(self):
         source = Source(31)
@@ -338,6 +388,27 @@ class LongRows(Case):
 
 
 class AtTheBounds(Case):
+
+    def test_many_forks_ahead_of_a_long_ring(self):
+        # Seven forks one behind another, then 1,800 places of which few have a pulse on the wires 0 and 1.
+        book = tuple(((0, s + 1), (1, s + 1)) for s in range(7)) + (((0, 7),),)
+        for gap in (1800, 50):
+            places = []
+            for p in range(127):
+                depth = (p + 1).bit_length() - 1
+                to = [min(127, 2 * p + 1), min(127, 2 * p + 2)]
+                places.append((depth, ((to[0], (2 ** (13 - depth), 0, 1)), (to[1], (0, 2 ** (13 - depth), 1)))))
+            for p in range(1800):
+                lot = (1, 0, 0) if p % gap == 0 else (0, 1, 0) if p % gap == 1 else (0, 0, 1)
+                places.append((7, ((127 + (p + 1) % 1800, lot),)))
+            laying = (3, tuple(places))
+            level = 1 + 127 * gap + 1
+            self.same(greatest(book, laying), level - 1)
+            self.same((right(book, laying, level - 1), right(book, laying, level)), (True, False))
+            if gap == 50:
+                self.same(why(book, laying, None), ("cover", (0,) * 6, 0, 1, (0,) * (level - 1)))
+            else:
+                self.refuses(TooMany, 6 + level, why, book, laying, None)
 
     def test_a_laying_right_for_a_great_window(self):
         laying = turns(1000)
