@@ -81,6 +81,14 @@ def lots_of(book, laying):
     return [{pair[0]: move[1] for pair, move in zip(book[state], moves)} for state, moves in laying[1]]
 
 
+def steps_of(book, laying):
+    """For each place, a list of tuples (message, to, lot)."""
+    steps = []
+    for state, moves in laying[1]:
+        steps.append([(pair[0], move[0], move[1]) for pair, move in zip(book[state], moves)])
+    return steps
+
+
 def place_at(book, laying, row):
     """The place to which the row comes."""
     made_laying(book, laying)

@@ -3,7 +3,7 @@
 from neverfour.books import made_book
 from neverfour.common import whole_within
 from neverfour.errors import BadWire
-from neverfour.layings import check_carrying, lots_of, moves_of
+from neverfour.layings import check_carrying, steps_of
 from neverfour.lots import lies_below, sum_of
 
 
@@ -36,9 +36,7 @@ class Teller:
     """The row told so far, with its place and its total."""
 
     def __init__(self, book, laying):
-        self.steps = []
-        for moves, lots in zip(moves_of(book, laying), lots_of(book, laying)):
-            self.steps.append([(message, to, lots[message]) for message, to in moves])
+        self.steps = steps_of(book, laying)
         self.place = 0
         self.total = (0,) * laying[0]
         self.messages = []
