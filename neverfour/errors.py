@@ -6,6 +6,8 @@ class Refused(ValueError):
 
     def __init__(self, what):
         self.what = what
+        # A session tells by this name what it refuses.
+        self.kind = self.__class__.__name__
 
 
 class BadBook(Refused):

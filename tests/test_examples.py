@@ -14,7 +14,7 @@ class Examples(unittest.TestCase):
         runner = doctest.DocTestRunner(verbose=False)
         result = runner.run(test, out=told.append)
         self.assertEqual(result.failed, 0, "".join(told))
-        self.assertGreater(result.attempted, 110)
+        self.assertGreater(result.attempted, 180)
 
 
 if __name__ == "__main__":

@@ -46,13 +46,51 @@ INTERFACE = {
     "breakers": {"pinch": ("book", "laying"), "fall": ("book", "laying", "window"), "again": ("book", "laying")},
     "rests": {"caps": ("book", "laying", "many")},
     "sure": {"sure": ("book", "laying", "counts")},
+    "scripts": {"made_script": ("thing",), "run_script": ("book", "laying", "window", "manner", "script")},
+    "runs": {"whole_run": ("book", "laying", "window", "manner", "row", "picks")},
+    "costs": {
+        "pulses_of": ("book", "laying", "row"), "dearest": ("book", "laying", "many"), "pace": ("book", "laying"),
+    },
+    "booktexts": {"made_names": ("thing",), "read_book": ("text",), "print_book": ("names", "book")},
+    "talks": {"read_talk": ("text",), "print_talk": ("names", "talk"), "book_of": ("talk",)},
+    "layingtexts": {"read_laying": ("names", "book", "text"), "print_laying": ("names", "book", "laying")},
+    "scripttexts": {"read_script": ("names", "text"), "print_script": ("names", "script")},
+    "store": {"read_store": ("text",)},
 }
 
 # The classes, what their objects are made of, and their methods.
 CLASSES = {
     "readers": {"Reader": (("book", "laying"), {"hear": ("wire",), "told": (), "counts": ()})},
     "rests": {"RestReader": (("book", "laying", "window"), {"rests": (), "look": ("rests",), "told": ()})},
+    "worlds": {
+        "World": (("book", "laying", "window", "manner"), {
+            "say": ("message",), "come": ("wire",), "answer": (), "said": (), "told": (), "counts": (), "away": (),
+            "owed": (), "answered": (), "good": (), "still": (),
+        }),
+    },
+    "trees": {
+        "Tree": (("book", "parents", "layings", "windows"), {
+            "say": ("message",), "send": ("house",), "come": ("house", "wire"), "answer": ("house",), "row": ("house",),
+            "owed": ("house",), "away": ("house",), "good": (), "still": (),
+        }),
+    },
+    "store": {
+        "Store": ((), {
+            "put": ("name", "names", "book"), "drop": ("name",), "rename": ("old", "new"), "names": (), "book": ("name",),
+            "back": (), "again": (), "text": (),
+        }),
+    },
+    "session": {"Session": ((), {"row": ("text",)})},
 }
+# What is done with an object ahead of a method that would be refused otherwise.
+AHEAD = {
+    ("World", "come"): [("say", 1)], ("World", "answer"): [("say", 1), ("come", 1), ("come", 1)],
+    ("Tree", "send"): [("say", 1)], ("Tree", "come"): [("say", 1), ("send", 1)],
+    ("Tree", "answer"): [("say", 1), ("send", 1), ("come", 1, 1), ("come", 1, 1)],
+}
+AHEAD.update({("Store", method): [("put", "till", ("a", "b"), (((0, 0), (1, 1)), ()))] for method in (
+    "drop", "rename", "book", "back", "text")})
+AHEAD["Store", "again"] = AHEAD["Store", "back"] + [("back",)]
 
 BOOK = (((0, 0), (1, 1)), ())
 FREE = (((0, 1), (1, 2)), (), ((4, 2),))
@@ -64,7 +102,10 @@ GOOD = {
     "book": BOOK, "one": BOOK, "two": (((2, 0),),), "row": (0, 0, 1), "state": 0, "many": 2, "message": 1,
     "laying": LAYING, "wires": 2, "lots": (((1, 0), (0, 1)), ()), "order": (1, 0), "wire": 1, "window": 2, "place": 2,
     "a": 1, "b": 0, "paper": PAPER, "thing": BOOK,
-    "counts": (3, 0), "rests": (1, 1),
+    "counts": (3, 0), "rests": (1, 1), "manner": "sooner", "script": (("say", 0), ("come", 0)), "picks": (0, 5),
+    "names": ("data", "shut"), "text": "0: data 0, shut 1; 1: -", "talk": ("row", (("any", ("say", 0)), ("say", 1))),
+    "parents": (0, 1), "layings": (LAYING, LAYING), "windows": (2, None), "house": 1, "name": "till", "old": "till",
+    "new": "other",
 }
 # What is good for some functions only.
 OWN = {
@@ -75,6 +116,10 @@ OWN = {
     "made_paper": {"thing": PAPER, "window": 3}, "why": {"window": 3}, "one_wire": {"book": (((7, 1),), ((3, 0),))},
     "free_wires": {"book": FREE}, "pinch": {"laying": (1, ((0, ((0, (2,)), (1, (1,)))), (1, ())))},
     "fall": {"book": (((0, 0), (1, 0)),), "laying": (2, ((0, ((0, (1, 0)), (0, (0, 1)))),))},
+    "made_script": {"thing": (("say", 0), ("answer",))}, "made_names": {"thing": ("data", "shut")},
+    "read_talk": {"text": "data* shut"}, "read_script": {"text": "say data, come 0"},
+    "read_laying": {"text": "wires 1; 0 at 0: data 0 (1), shut 1 (2); 1 at 1: -"},
+    "read_store": {"text": "till = 0: data 0, shut 1; 1: -"}, "Session": {"text": "rows"},
 }
 
 
@@ -82,6 +127,11 @@ def arguments(name, names):
     """Good values for the arguments of a function."""
     good = dict(GOOD, **OWN.get(name, {}))
     return [good[argument] for argument in names]
+
+
+def backwards(names, values):
+    """The values by their names, the last one first."""
+    return dict(reversed(list(zip(names, values))))
 
 
 def kinds(thing):
@@ -119,15 +169,35 @@ class Interface(Case):
         for module, name, made, names, methods in self.classes():
             good = arguments(name, names)
             for method, told in methods.items():
-                one, two = made(*good), made(**dict(zip(names, good)))
+                one, two = made(*good), made(**backwards(names, good))
+                for ahead in AHEAD.get((name, method), ()):
+                    getattr(one, ahead[0])(*ahead[1:])
+                    getattr(two, ahead[0])(*ahead[1:])
                 values = arguments(name, told)
                 found = getattr(one, method)(*values)
                 self.assertTrue(kinds(found), (name, method))
-                self.same(getattr(two, method)(**dict(zip(told, values))), found)
+                self.same(getattr(two, method)(**backwards(told, values)), found)
             for k, value in enumerate(good):
                 for wrong in (True, False) if isinstance(value, int) else (list(value),):
                     with self.assertRaises(ValueError):
                         made(*good[:k] + [wrong] + good[k + 1:])
+
+    def test_methods_take_no_list_for_a_tuple_and_no_truth_for_a_number(self):
+        for module, name, made, names, methods in self.classes():
+            for method, told in methods.items():
+                values = arguments(name, told)
+                for k, value in enumerate(values):
+                    thing = made(*arguments(name, names))
+                    for ahead in AHEAD.get((name, method), ()):
+                        getattr(thing, ahead[0])(*ahead[1:])
+                    for wrong in (True, False) if isinstance(value, int) else (list(value),):
+                        if name == "Session":
+                            self.same(thing.row(wrong), "refused: BadText -1")
+                            continue
+                        with self.assertRaises(ValueError):
+                            getattr(thing, method)(*values[:k] + [wrong] + values[k + 1:])
+                    # What was refused has changed nothing, so the call is let now.
+                    getattr(thing, method)(*values)
 
     def test_each_is_defined_in_its_file(self):
         for module, name, function, names in self.functions():
@@ -147,8 +217,12 @@ class Interface(Case):
         for module, name, function, names in self.functions():
             good = arguments(name, names)
             told = function(*good)
+            if name == "read_store":
+                self.same((told.text(), function(**backwards(names, good)).text()), (good[0], good[0]))
+                continue
             self.assertTrue(kinds(told), (name, told))
             self.same(function(**dict(zip(names, good))), told)
+            self.same(function(**backwards(names, good)), told)
             self.same(function(*good), told)
             self.same(good, arguments(name, names))
 
@@ -156,7 +230,8 @@ class Interface(Case):
         for module, name, function, names in self.functions():
             good = arguments(name, names)
             for k, value in enumerate(good):
-                if isinstance(value, tuple):
+                # Nothing is promised for a talk of a wrong form.
+                if isinstance(value, tuple) and names[k] != "talk":
                     wrong = good[:k] + [list(value)] + good[k + 1:]
                     if (name.startswith("is_") or name == "paper_right") and k == len(good) - 1:
                         self.assertIs(function(*wrong), False)

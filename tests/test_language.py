@@ -115,7 +115,36 @@ class Language(unittest.TestCase):
                 self.assertIsInstance(node, (ast.FunctionDef, ast.ClassDef, ast.Assign), name)
                 if isinstance(node, ast.Assign):
                     self.assertEqual(len(node.targets), 1)
-                    self.assertIsInstance(node.value, ast.Constant, name)
+                    self.plain_value(node.value, tree, node.lineno)
+
+    def plain_value(self, node, tree, line):
+        """A constant, a tuple of plain values, or a dict of these and of functions that are defined above."""
+        if isinstance(node, ast.Dict):
+            for part in node.keys:
+                self.assertIsInstance(part, ast.Constant, line)
+            for part in node.values:
+                self.assertNotIsInstance(part, ast.Dict, line)
+                if isinstance(part, ast.Name):
+                    above = [top.name for top in tree.body if isinstance(top, ast.FunctionDef) and top.lineno < line]
+                    self.assertIn(part.id, above, line)
+                else:
+                    self.plain_value(part, tree, line)
+        elif isinstance(node, ast.Tuple):
+            for part in node.elts:
+                self.assertNotIsInstance(part, ast.Dict, line)
+                self.plain_value(part, tree, line)
+        else:
+            self.assertIsInstance(node, ast.Constant, line)
+
+    def test_tables_are_only_read(self):
+        for name, tree in self.trees.items():
+            tables = [top.targets[0].id for top in tree.body if isinstance(top, ast.Assign) and isinstance(top.value, ast.Dict)]
+            for node in ast.walk(tree):
+                for part in ast.iter_child_nodes(node):
+                    if isinstance(part, ast.Name) and part.id in tables and isinstance(part.ctx, ast.Load):
+                        read = isinstance(node, ast.Subscript) and isinstance(node.ctx, ast.Load)
+                        copied = isinstance(node, ast.Call) and node.func.id in ("tuple", "list", "dict", "len", "sorted")
+                        self.assertTrue(read or copied or isinstance(node, ast.Compare), (name, part.lineno))
 
     def test_imports(self):
         graph = {}
@@ -183,8 +212,13 @@ class Language(unittest.TestCase):
                 self.assertIsInstance(node.value, ast.Name, at)
         for kind in (str, int, list, dict, set, bytes, tuple):
             self.assertEqual([word for word in (own | stored) - {"__init__"} if hasattr(kind, word)], [])
+        # A name is a method or an attribute, not both; two pairs of classes are known in which it is.
+        self.assertLessEqual(own & stored, {"least", "lots"})
+        named = []
         for at, node in self.nodes(ast.Attribute):
-            if isinstance(node.ctx, ast.Load):
+            if ast.unparse(node) == "self.__class__.__name__":
+                named += [node, node.value]
+            elif isinstance(node.ctx, ast.Load) and node not in named:
                 self.assertIn(node.attr, own | stored | LET_METHODS, at)
 
     def test_calls(self):
