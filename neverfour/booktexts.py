@@ -190,7 +190,7 @@ def book_part(words, behind):
     check_heads(states)
     names = tuple(sorted(found))
     numbers = numbers_of(names)
-    book = [tuple(sorted([(numbers[name], to) for name, to, place in moves])) for moves in states]
+    book = [tuple(sorted([(numbers[name], to) for name, to, at in moves])) for moves in states]
     return (names, made_book(tuple(book)), closed)
 
 

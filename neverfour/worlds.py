@@ -164,19 +164,19 @@ class Sooner:
         """Tells messages as long as just one can be told; the messages that are newly told."""
         done = len(self.messages)
         while not lies_below(counts, self.total):
-            alive = self.alive(counts)
-            if len(alive) != 1:
+            found = self.alive(counts)
+            if len(found) != 1:
                 break
-            self.go_on(alive[0])
+            self.go_on(found[0])
         return tuple(self.messages[done:])
 
     def alive(self, counts):
         """The indexes of the messages with which rows can bring the counts; two at most, as more change nothing."""
-        alive = []
+        found = []
         for index in range(len(self.trials)):
-            if len(alive) < 2 and self.brings(self.trials[index], counts):
-                alive.append(index)
-        return alive
+            if len(found) < 2 and self.brings(self.trials[index], counts):
+                found.append(index)
+        return found
 
     def brings(self, ways, counts):
         """Whether one of the ways brings the counts; those that do not are dropped for good, as counts never fall."""

@@ -4,7 +4,9 @@ import importlib
 import inspect
 import unittest
 
-from tests.case import Case
+from neverfour.errors import Refused
+
+from tests.case import ODD, Case
 
 INTERFACE = {
     "books": {
@@ -247,6 +249,30 @@ class Interface(Case):
                     for wrong in (True, False):
                         with self.assertRaises(ValueError):
                             function(*good[:k] + [wrong] + good[k + 1:])
+
+    def test_any_value_may_be_handed_in(self):
+        # Where an error is named for an argument; nothing is promised for a talk of a wrong form.
+        for module, name, function, names in self.functions():
+            good = arguments(name, names)
+            for k in range(len(good)):
+                if names[k] != "talk":
+                    self.only_refused(function, good, k)
+        for module, name, made, names, methods in self.classes():
+            good = arguments(name, names)
+            for k in range(len(good)):
+                self.only_refused(made, good, k)
+            for method, told in methods.items():
+                values = arguments(name, told)
+                for k in range(len(values)):
+                    self.only_refused(lambda *more: getattr(made(*good), method)(*more), values, k)
+
+    def only_refused(self, function, good, k):
+        """With another value as the argument k, the function raises nothing but errors of the package."""
+        for thing in ODD + tuple(GOOD.values()):
+            try:
+                function(*good[:k] + [thing] + good[k + 1:])
+            except Refused:
+                pass
 
 
 if __name__ == "__main__":

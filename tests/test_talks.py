@@ -206,6 +206,7 @@ class ReadTalk(Case):
         self.same(read_talk("(a)" * 5 + "(" * 28 + "((b)|(c))" + ")" * 28), (
             ("a", "b", "c"), ("row", (SAY[0],) * 5 + (("or", SAY[1:3]),))))
         self.refuses(TooDeep, 32, read_talk, "a " + "(" * 31)
+        self.refuses(TooDeep, 39, read_talk, "(a)" * 3 + "(" * 31)
 
     def test_signs(self):
         self.refuses(BadText, -1, read_talk, None)

@@ -299,6 +299,30 @@ class Links(Case):
         self.refuses(Waits, 1, tree.send, 1)
         self.same((tree.still(), tree.good(), tree.row(1)), (True, False, (1,)))
 
+    def test_still_asks_of_each_link_whether_it_waits(self):
+        # As above one link comes to wait for ever; the other one never waits, and is still once it has sent all.
+        book = (((0, 0), (1, 1)), ((2, 1),))
+        deaf = simple(book, 1, (((2,), (1,)), ((5,),)))
+        good = simple(book, 3, (((1, 0, 0), (0, 1, 0)), ((0, 0, 1),)))
+        for waiting, free in ((1, 2), (2, 1)):
+            layings, windows = ((deaf, good), (1, None)) if free == 2 else ((good, deaf), (None, 1))
+            tree = Tree(book, (0, 0), layings, windows)
+            for _ in range(3):
+                tree.say(0)
+            for _ in range(2):
+                tree.send(waiting)
+                tree.come(waiting, 0)
+                tree.come(waiting, 0)
+                if tree.owed(waiting):
+                    tree.answer(waiting)
+            self.refuses(Waits, waiting, tree.send, waiting)
+            for _ in range(3):
+                self.same(tree.still(), False)
+                tree.send(free)
+                self.same(tree.still(), False)
+                tree.come(free, 0)
+            self.same((tree.still(), tree.row(waiting), tree.row(free)), (True, (1,), (0, 0, 0)))
+
     def test_without_answers_none_is_sent(self):
         tree = Tree(ONE, (0, 1), (PULSE, PULSE), (None, 3))
         for _ in range(9):
